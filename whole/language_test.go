@@ -16,7 +16,7 @@ import (
 
 // layers are the packages that are held to the program's language, each over those ahead of it.
 var layers = []string{
-	"ints", "heap", "strs", "lex", "parse", "show", "types", "infer", "cover", "tree", "fold",
+	"ints", "heap", "strs", "lex", "parse", "source", "show", "types", "infer", "cover", "tree", "fold",
 	"core", "code", "verify", "gen", "prims", "vm", "tl2", "sched", "machine", "build", "lines",
 }
 

@@ -1,4 +1,4 @@
-package infer
+package source
 
 import (
 	"slices"

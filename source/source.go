@@ -1,4 +1,5 @@
-package infer
+// Package source tells which nodes a source has. It stands on parse; infer and core ask it.
+package source
 
 import (
 	"slices"
@@ -30,10 +31,10 @@ type place struct {
 	behind  string
 }
 
-// had tells whether a source has a node, whatever the places in it.
+// Has tells whether a source has a node, whatever the places in it.
 //
 // The node is written by as few bytes as a source can have it in, for a source has not many. Whatever is wrong with it, it is never read as it then.
-func had(n api.Node) bool {
+func Has(n api.Node) bool {
 	if room(n, 3*api.MaxSource) < 0 {
 		return false
 	}
