@@ -191,7 +191,7 @@ func written(c api.Code) []byte {
 func TestCodesAgainstTheModel(t *testing.T) {
 	d := dice(1)
 	var may int
-	for range 40000 {
+	for range 20000 {
 		c := d.code()
 		want := written(c)
 		m, ok := model(bytes.NewReader(want))
@@ -204,7 +204,7 @@ func TestCodesAgainstTheModel(t *testing.T) {
 			may++
 		}
 	}
-	if may < 10000 || may > 39000 {
+	if may < 5000 || may > 19500 {
 		t.Errorf("%d of the codes may be", may)
 	}
 }
@@ -242,7 +242,7 @@ func (d *dice) spoilt(b []byte) []byte {
 func TestBytesAgainstTheModel(t *testing.T) {
 	d := dice(2)
 	var may int
-	for range 60000 {
+	for range 30000 {
 		c := d.code()
 		for !code.May(c) || len(c.Funs) > 100 {
 			c = d.code()
@@ -260,7 +260,7 @@ func TestBytesAgainstTheModel(t *testing.T) {
 			}
 		}
 	}
-	if may < 3000 || may > 50000 {
+	if may < 1500 || may > 25000 {
 		t.Errorf("%d of the bytes are a code's", may)
 	}
 }
